@@ -609,8 +609,9 @@ func some(paths ...string) []edit.Op {
 	return all
 }
 
-func TestTwoSmallLayers(t *testing.T) {
-	layers, ops := small("/a", "/a-", "/a/b"), some("/a", "/a-", "/a/b", "/a/b/c", "/c")
+// overAll does the ops over each stack of two of the layers.
+func overAll(t *testing.T, layers []table, ops []edit.Op) {
+	t.Helper()
 	for _, low := range layers {
 		for _, up := range layers {
 			for _, o := range ops {
@@ -620,15 +621,9 @@ func TestTwoSmallLayers(t *testing.T) {
 	}
 }
 
-func TestTwoDeepLayers(t *testing.T) {
-	layers, ops := small("/a", "/a/b", "/a/b/c"), some("/a", "/a/b", "/a/b/c", "/a/d", "/d")
-	for _, low := range layers {
-		for _, up := range layers {
-			for _, o := range ops {
-				asTold(t, stack{low}, up, o)
-			}
-		}
-	}
+func TestTwoSmallLayers(t *testing.T) {
+	overAll(t, small("/a", "/a-", "/a/b"), some("/a", "/a-", "/a/b", "/a/b/c", "/c"))
+	overAll(t, small("/a", "/a/b", "/a/b/c"), some("/a", "/a/b", "/a/b/c", "/a/d", "/d"))
 }
 
 func TestThreeSmallLayers(t *testing.T) {
